@@ -1,0 +1,1 @@
+"""Followmost: people who follow their neighbours."""
