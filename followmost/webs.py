@@ -40,6 +40,10 @@ def stay_of(web, person):
     return web[2][person]
 
 
+def free_of(web):
+    return [person for person in range(many_of(web)) if stay_of(web, person) is None]
+
+
 # One dict for each person, from the others to the weights. Each tie is put
 # down for both its people, so that a tie told again is found either way round.
 def neighbours(many, ties):

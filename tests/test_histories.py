@@ -5,7 +5,7 @@ from followmost.errors import MostError, NoStand, TooLong
 from followmost.histories import ended, history, sums
 from followmost.turns import is_below, turn
 from followmost.webs import web_of
-from tests.samples import GREATEST, NO_NUMBERS, families, slow_sum, slow_turn, stands_of
+from tests.samples import GREATEST, NO_NUMBERS, families, heavier, lower, slow_sum, slow_turn, stands_of, staying
 
 # A line of three, each of whom needs one neighbour with 1.
 LINE = web_of(3, [(0, 1, 1), (1, 2, 1)], [0, 0, 0], [1, None, None])
@@ -165,29 +165,21 @@ class TheWhole(unittest.TestCase):
 
     def test_a_heavier_tie_with_the_bars_as_they_were(self):
         for told, web in families(150):
-            many, ties, bars, stays = told
-            for place, (one, other, weight) in enumerate(ties):
-                heavier = ties[:place] + [(one, other, min(400, weight + 2))] + ties[place + 1:]
+            for more in heavier(told):
                 for stand in stands_of(told):
-                    self.above(web, web_of(many, heavier, list(web[1]), stays), stand, stand)
+                    self.above(web, web_of(*more), stand, stand)
 
     def test_a_lower_bar(self):
         for told, web in families(150):
-            for person in range(told[0]):
-                bars = list(web[1])
-                bars[person] -= 2
+            for more in lower(told):
                 for stand in stands_of(told):
-                    self.above(web, web_of(told[0], told[1], bars, told[3]), stand, stand)
+                    self.above(web, web_of(*more), stand, stand)
 
     def test_one_more_who_stays_with_one(self):
         for told, web in families(150):
-            for person in range(told[0]):
-                if web[2][person] is None:
-                    stays = list(web[2])
-                    stays[person] = 1
-                    more = web_of(told[0], told[1], list(web[1]), stays)
-                    for stand in stands_of(told):
-                        self.above(web, more, stand, stand[:person] + (1,) + stand[person + 1:])
+            for more, person in staying(told):
+                for stand in stands_of(told):
+                    self.above(web, web_of(*more), stand, stand[:person] + (1,) + stand[person + 1:])
 
     def test_the_same_asked_again(self):
         for told, web in families(40):

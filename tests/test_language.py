@@ -27,7 +27,30 @@ NODES = set("""Module Expr Constant ImportFrom alias FunctionDef ClassDef argume
     ListComp comprehension BinOp UnaryOp BoolOp Compare IfExp JoinedStr FormattedValue Lambda Load Store
     Add Sub Mult FloorDiv Mod Pow BitAnd BitOr BitXor LShift RShift Invert Not UAdd USub And Or
     Eq NotEq Lt LtE Gt GtE Is IsNot In NotIn""".split())
+WALKED = {"zip", "enumerate", "reversed", "range", "items", "keys", "values"}
+WALKERS = {"list", "tuple", "dict", "sorted", "sum", "any", "all", "enumerate", "zip"}
+KEYWORDS = {"sorted": {"key", "reverse"}, "min": {"key", "default"}, "max": {"key", "default"},
+            "sum": {"start"}, "enumerate": {"start"}, "zip": {"strict"}}
 METHODS = {"__init__", "__eq__", "__repr__", "__str__", "__len__"}
+
+
+def called(node):
+    """The name of the function or method that a call calls, or None."""
+    if not isinstance(node, ast.Call):
+        return None
+    return getattr(node.func, "id", None) or getattr(node.func, "attr", None)
+
+
+def walked_by(node, above):
+    """Whether what stands above a node walks it on the spot."""
+    if isinstance(above, (ast.For, ast.comprehension)):
+        return above.iter is node
+    name = called(above)
+    if name == "join":
+        return isinstance(above.func, ast.Attribute) and isinstance(above.func.value, ast.Constant)
+    if name in ("min", "max"):
+        return above.args == [node]
+    return name in WALKERS and above.args[:1] == [node]
 
 
 def trees():
@@ -147,6 +170,26 @@ class Language(unittest.TestCase):
         for node, place in self.each(ast.Call):
             if isinstance(node.func, ast.Attribute):
                 self.assertIn(node.func.attr, OWN_METHODS | own, place)
+
+    def test_walked_on_the_spot(self):
+        for above, place in self.each(ast.AST):
+            for node in ast.iter_child_nodes(above):
+                if called(node) in WALKED:
+                    self.assertTrue(walked_by(node, above), place)
+
+    def test_keywords(self):
+        own = {node.name for node, place in self.each(ast.FunctionDef, ast.ClassDef)}
+        for node, place in self.each(ast.Call):
+            given = {part.arg for part in node.keywords}
+            if called(node) not in own:
+                self.assertLessEqual(given, KEYWORDS.get(called(node), set()), place)
+
+    def test_the_top_of_a_file(self):
+        for path, tree in trees():
+            self.assertIsInstance(ast.get_docstring(tree), str, path)
+            for node in tree.body[1:]:
+                kinds = (ast.ImportFrom, ast.FunctionDef, ast.ClassDef, ast.Assign)
+                self.assertIsInstance(node, kinds, f"{path.name}:{node.lineno}")
 
     def test_imports(self):
         above = {}

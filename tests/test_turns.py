@@ -4,11 +4,8 @@ from followmost.errors import MostError, NoStand
 from followmost.histories import ended, history, sums
 from followmost.turns import fits, is_below, next_of, pull, turn
 from followmost.webs import web_of
-from tests.samples import GREATEST, NO_NUMBERS, Prickly, families, slow_pull, slow_turn, stands_of
-
-# 0 - 1 by 2, 1 - 2 by 3, 0 - 2 by 1; person 3 alone.
-TIES = [(0, 1, 2), (1, 2, 3), (0, 2, 1)]
-WEB = web_of(4, TIES, [4, 4, 4, 0], [None, None, 1, None])
+from tests.samples import FOUR as WEB, FOUR_TIES as TIES, GREATEST, Prickly, families, no_stands
+from tests.samples import slow_pull, slow_turn, stands_of
 
 
 class Fitting(unittest.TestCase):
@@ -29,20 +26,12 @@ class Fitting(unittest.TestCase):
             every = stands_of((told[0], told[1], told[2], None))
             self.assertEqual([stand for stand in every if fits(web, stand)], stands_of(told))
 
-    def no_stands(self):
-        things = [None, 0, 1, "0010", [0, 0, 1, 0], {0: 0, 1: 0, 2: 1, 3: 0}, (), (0, 0, 1), (0, 0, 1, 0, 0),
-                  (0, 0, 1, 2), (0, 0, 1, -1), (0, 0, 1, GREATEST), (0, 0, 1, -GREATEST), (0, 0, 0, 0),
-                  (0, 0, 1, None), (0, 0, True, 0), (False, 0, 1, 0), (0, 0, 1.0, 0), ((0, 0, 1, 0),)]
-        for thing in NO_NUMBERS:
-            things.extend([thing, (thing, 0, 1, 0), (0, 0, thing, 0), (0, 0, 1, thing)])
-        return things
-
     def test_other_things_do_not_fit(self):
-        for thing in self.no_stands():
+        for thing in no_stands():
             self.assertIs(fits(WEB, thing), False)
 
     def test_other_things_are_refused(self):
-        for thing in self.no_stands():
+        for thing in no_stands():
             for ask in [lambda: pull(WEB, thing, 0), lambda: next_of(WEB, thing, 0), lambda: turn(WEB, thing),
                         lambda: history(WEB, thing, 0), lambda: history(WEB, thing, 3),
                         lambda: ended(WEB, thing), lambda: sums(WEB, [thing]),
