@@ -1,7 +1,7 @@
 """The doubled web, whose rests are the rests and the pairs of the web itself."""
 
 from followmost.errors import TooMuch
-from followmost.webs import bar_of, many_of, stay_of, ties_of, web_of
+from followmost.webs import bars_of, many_of, stays_of, ties_of, web_of
 
 MOST_PEOPLE_DOUBLED = 15
 MOST_WEIGHT_DOUBLED = 200
@@ -11,11 +11,8 @@ MOST_WEIGHT_DOUBLED = 200
 # take what the other half holds where the person's pull and bar are the same.
 def doubled(web):
     check_size(web)
-    bars = []
-    stays = []
-    for person in range(many_of(web)):
-        bars.append(2 * bar_of(web, person) + 1)
-        stays.append(stay_of(web, person))
+    bars = [2 * bar + 1 for bar in bars_of(web)]
+    stays = stays_of(web)
     return web_of(2 * many_of(web), doubled_ties(web), bars + bars, stays + stays)
 
 

@@ -4,7 +4,7 @@ from followmost.errors import NoRest, TooMuch
 from followmost.histories import ended
 from followmost.orders import is_rest
 from followmost.turns import check_stand, turn_at
-from followmost.webs import free_of, many_of, stay_of
+from followmost.webs import free_of, stays_of
 
 MOST_FREE = 12
 
@@ -51,8 +51,7 @@ def check_rests(web, one, other):
 
 
 def stand_of_all(web, opinion):
-    stays = [stay_of(web, person) for person in range(many_of(web))]
-    return tuple([opinion if stay is None else stay for stay in stays])
+    return tuple([opinion if stay is None else stay for stay in stays_of(web)])
 
 
 # Only for stands from which the history ends at rest.

@@ -2,15 +2,13 @@
 
 from followmost.errors import NoPeople
 from followmost.histories import ended
-from followmost.webs import many_of, stay_of
-from followmost.wholes import is_between
+from followmost.webs import is_person, stay_of, stays_of
 
 
 def begun(web, some):
     if not are_choosable(web, some):
         raise NoPeople("this is no rising list of people who don't stay with 0")
-    stays = [stay_of(web, person) for person in range(many_of(web))]
-    return tuple([1 if person in some or stay == 1 else 0 for person, stay in enumerate(stays)])
+    return tuple([1 if person in some or stay == 1 else 0 for person, stay in enumerate(stays_of(web))])
 
 
 # Where the history ends at rest with all holding 1, the first stand at which all do is
@@ -37,4 +35,4 @@ def are_choosable(web, thing):
 
 
 def may_be_chosen(web, thing):
-    return is_between(thing, 0, many_of(web) - 1) and stay_of(web, thing) != 0
+    return is_person(web, thing) and stay_of(web, thing) != 0

@@ -40,8 +40,28 @@ def stay_of(web, person):
     return web[2][person]
 
 
+def bars_of(web):
+    return list(web[1])
+
+
+def stays_of(web):
+    return list(web[2])
+
+
 def free_of(web):
-    return [person for person in range(many_of(web)) if stay_of(web, person) is None]
+    return [person for person, stay in enumerate(stays_of(web)) if stay is None]
+
+
+# Each tie once, the lesser person ahead; sorted, as the others of a person rise.
+def ties_once(web):
+    ties = []
+    for one in range(many_of(web)):
+        ties.extend([(one, other, weight) for other, weight in ties_of(web, one) if one < other])
+    return ties
+
+
+def is_person(web, thing):
+    return is_between(thing, 0, many_of(web) - 1)
 
 
 # One dict for each person, from the others to the weights. Each tie is put

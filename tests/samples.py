@@ -1,6 +1,6 @@
 """Webs and odd things that several tests share, and a slow reckoning beside the program's."""
 
-from itertools import product
+from itertools import combinations, product
 
 from followmost import errors
 from followmost.webs import web_of
@@ -144,6 +144,25 @@ def slow_rests(told):
 def slow_pairs(told):
     return [(one, other) for one in stands_of(told) for other in stands_of(told)
             if one < other and slow_turn(told, one) == other and slow_turn(told, other) == one]
+
+
+def choosable(web):
+    return [person for person, stay in enumerate(web[2]) if stay != 0]
+
+
+def all_lists(web):
+    """All rising lists of people who may be chosen, the shorter ones first."""
+    people = choosable(web)
+    return [list(some) for many in range(len(people) + 1) for some in combinations(people, many)]
+
+
+def slow_turns_all(told, some):
+    many, ties, bars, stays = told
+    stays = [None] * many if stays is None else stays
+    stand = tuple(int(person in some or stays[person] == 1) for person in range(many))
+    while slow_turn(told, slow_turn(told, stand)) != stand:
+        stand = slow_turn(told, stand)
+    return stand == slow_turn(told, stand) == (1,) * many
 
 
 def heavier(told):

@@ -31,6 +31,7 @@ WALKED = {"zip", "enumerate", "reversed", "range", "items", "keys", "values"}
 WALKERS = {"list", "tuple", "dict", "sorted", "sum", "any", "all", "enumerate", "zip"}
 KEYWORDS = {"sorted": {"key", "reverse"}, "min": {"key", "default"}, "max": {"key", "default"},
             "sum": {"start"}, "enumerate": {"start"}, "zip": {"strict"}}
+CHANGING = {"append", "clear", "extend", "insert", "pop", "remove", "reverse", "setdefault", "update"}
 METHODS = {"__init__", "__eq__", "__repr__", "__str__", "__len__"}
 
 
@@ -141,6 +142,38 @@ class Language(unittest.TestCase):
             self.assertLessEqual(len(node.bases), 1, place)
             for part in node.body:
                 self.assertIsInstance(part, (ast.FunctionDef, ast.Pass), place)
+
+    def test_no_name_is_a_method_here_and_a_value_there(self):
+        methods = {part.name for node, place in self.each(ast.ClassDef) for part in node.body
+                   if isinstance(part, ast.FunctionDef)}
+        for node, place in self.each(ast.Attribute):
+            if isinstance(node.ctx, ast.Store):
+                self.assertNotIn(node.attr, methods, place)
+                self.assertIsInstance(node.value, ast.Name, place)
+
+    def test_texts_with_names_in_them(self):
+        for node, place in self.each(ast.FormattedValue):
+            self.assertIsInstance(node.value, ast.Name, place)
+            self.assertIsNone(node.format_spec, place)
+
+    def test_values_at_a_files_top(self):
+        for path, tree in trees():
+            for node in tree.body:
+                if isinstance(node, ast.Assign):
+                    for part in ast.walk(node.value):
+                        kinds = (ast.Constant, ast.Tuple, ast.Load, ast.Name)
+                        self.assertIsInstance(part, kinds if part != node.value else kinds + (ast.List, ast.Dict),
+                                              f"{path.name}:{node.lineno}")
+
+    def test_what_a_loop_walks_is_not_changed_in_it(self):
+        for node, place in self.each(ast.For):
+            walked = {part.id for part in ast.walk(node.iter) if isinstance(part, ast.Name)}
+            for part in ast.walk(ast.Module(node.body, [])):
+                if isinstance(part, ast.Call) and isinstance(part.func, ast.Attribute):
+                    if part.func.attr in CHANGING and isinstance(part.func.value, ast.Name):
+                        self.assertNotIn(part.func.value.id, walked, place)
+                if isinstance(part, ast.Subscript) and isinstance(part.ctx, ast.Store):
+                    self.assertNotIn(getattr(part.value, "id", None), walked, place)
 
     def test_names(self):
         for node, place in self.each(ast.Name, ast.arg, ast.FunctionDef, ast.ClassDef, ast.Attribute):

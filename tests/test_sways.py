@@ -1,26 +1,17 @@
 import unittest
 from copy import deepcopy
-from itertools import combinations
 
 from followmost.errors import NoPeople
 from followmost.sways import begun, turns_all
 from followmost.webs import web_of
-from tests.samples import GREATEST, NO_NUMBERS, Prickly, families, heavier, lower, refused, slow_turn, staying
+from tests.samples import (GREATEST, NO_NUMBERS, Prickly, all_lists, choosable, families, heavier, lower, refused,
+                           slow_turn, staying)
 
 # A line of four, each of whom needs one neighbour with 1.
 LINE = web_of(4, [(0, 1, 1), (1, 2, 1), (2, 3, 1)], [0, 0, 0, 0], None)
 # The same, but person 0 stays with 1 and person 3 with 0.
 BETWEEN = web_of(4, [(0, 1, 1), (1, 2, 1), (2, 3, 1)], [1, 1, 1, 1], [1, None, None, 0])
 TWO = web_of(2, [(0, 1, 1)], None, None)
-
-
-def may_be_chosen(web):
-    return [person for person, stay in enumerate(web[2]) if stay != 0]
-
-
-def all_lists(web):
-    people = may_be_chosen(web)
-    return [list(some) for many in range(len(people) + 1) for some in combinations(people, many)]
 
 
 class Begun(unittest.TestCase):
@@ -194,7 +185,7 @@ class TheWhole(unittest.TestCase):
                     if words[some] == "turn" and set(some) <= set(more):
                         self.assertEqual(words[more], "turn")
                         turned += 1
-            if words[tuple(may_be_chosen(web))] == "not":
+            if words[tuple(choosable(web))] == "not":
                 self.assertEqual(set(words.values()), {"not"})
         self.assertGreater(turned, 0)
 
